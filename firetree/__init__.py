@@ -1,0 +1,1 @@
+"""Firetree: a fire that goes down a tree, and what is saved."""
