@@ -25,7 +25,7 @@ def nodes(path):
 class Package(unittest.TestCase):
     def test_the_files_are_there(self):
         names = [path.relative_to(PACKAGE).as_posix() for path in files()]
-        for name in ["__init__.py", "errors.py", "trees.py"]:
+        for name in ["__init__.py", "errors.py", "trees.py", "fires.py", "plans.py", "notes.py"]:
             self.assertIn(name, names)
 
     def test_nothing_but_python_lies_in_it(self):

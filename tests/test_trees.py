@@ -1,8 +1,8 @@
-import itertools
 import unittest
 
-from firetree.errors import BadPlan, BadTree, FireError, NoText, NoThing
+from firetree.errors import BadTree, NoThing
 from firetree.trees import Tree
+from helper import Refusing, all_elders, hangs
 
 # Each: elders, worths, depths, below and worths below of all things, worked out by hand.
 KNOWN = {
@@ -91,16 +91,6 @@ NO_TREES = {
 ASKED = ["depth", "below", "worth_below"]
 
 
-def all_elders(things):
-    return [list(elders) for elders in itertools.product(*[range(thing) for thing in range(1, things)])]
-
-
-def hangs(elders, thing, upper):
-    while thing != upper and thing > 0:
-        thing = elders[thing - 1]
-    return thing == upper
-
-
 def told(tree):
     rows = [[getattr(tree, name)(thing) for thing in range(tree.things())] for name in ASKED]
     return [tree.elders(), tree.worths(), tree.things()] + rows
@@ -108,16 +98,6 @@ def told(tree):
 
 def expected(elders, worths, depths, below, worths_below):
     return [elders, worths, len(worths), depths, below, worths_below]
-
-
-class Refusing(unittest.TestCase):
-    def assert_refused(self, refusal, call, *values):
-        with self.assertRaises(FireError) as caught:
-            call(*values)
-        self.assertIs(type(caught.exception), refusal)
-        self.assertIsInstance(caught.exception, ValueError)
-        for other in [BadTree, NoThing, BadPlan, NoText]:
-            self.assertEqual(isinstance(caught.exception, other), other is refusal)
 
 
 class WhatIsTold(unittest.TestCase):
